@@ -1,0 +1,96 @@
+// Package sign: signing together: see DOC.md.
+package sign
+
+import (
+	"threshold/api"
+	"threshold/number"
+)
+
+// Deal: a group and its signers' shares, out of a polynomial (P2).
+func Deal(t int, n int, coeffs []uint64) (api.Group, []uint64, api.Errno) {
+	if !countsFit(t, n, len(coeffs)) {
+		return api.Group{}, nil, api.ErrCount
+	}
+	scalars, ok := number.All(number.ScalarOf, coeffs)
+	if !ok || scalars[0] == 0 {
+		return api.Group{}, nil, api.ErrScalar
+	}
+	commits := make([]number.Element, t)
+	for k, c := range scalars {
+		commits[k] = number.ToThe(c)
+	}
+	shares := make([]number.Scalar, n)
+	for i := range n {
+		shares[i] = polynomial(scalars).at(i + 1)
+	}
+	return api.Group{T: t, N: n, Commits: number.Plain(commits)}, number.Plain(shares), api.OK
+}
+
+// Check: is a share a signer's of a group (P3)?
+func Check(g api.Group, id int, share uint64) (bool, api.Errno) {
+	own, e := newGroup(g)
+	if e != api.OK {
+		return false, e
+	}
+	if !own.has(id) {
+		return false, api.ErrID
+	}
+	scalar, ok := number.ScalarOf(share)
+	if !ok {
+		return false, api.ErrScalar
+	}
+	return number.ToThe(scalar) == own.public(id), api.OK
+}
+
+// Combine: what a polynomial is at 0, out of values at some places (P4).
+func Combine(ids []int, shares []uint64) (uint64, api.Errno) {
+	if len(ids) == 0 || len(ids) > api.MaxN || len(ids) != len(shares) {
+		return 0, api.ErrLength
+	}
+	scalars := make([]number.Scalar, len(ids))
+	ahead := 0
+	for k, id := range ids {
+		if id < 1 || id > api.MaxN {
+			return 0, api.ErrID
+		}
+		if id <= ahead {
+			return 0, api.ErrOrder
+		}
+		scalar, ok := number.ScalarOf(shares[k])
+		if !ok {
+			return 0, api.ErrScalar
+		}
+		scalars[k], ahead = scalar, id
+	}
+	sum := number.Together(number.Scalar.Plus, 0, number.Pairwise(number.Scalar.Times, scalars, weights(ids))...)
+	return uint64(sum), api.OK
+}
+
+// Pack: commitments as bytes (P5).
+func Pack(l []api.Commit) string { return "" }
+
+// Unpack: the commitments of bytes (P5).
+func Unpack(s string) ([]api.Commit, api.Errno) { return nil, api.OK }
+
+// Verify: does a signature hold (P6)?
+func Verify(key uint64, message string, s api.Sig) bool { return false }
+
+// Signer: of a group.
+type Signer struct{}
+
+// NewSigner: of a group, with its share (P7).
+func NewSigner(g api.Group, id int, share uint64) (*Signer, api.Errno) { return nil, api.OK }
+
+// Commit: to a pair of nonces, which is kept (P8).
+func (s *Signer) Commit(d uint64, e uint64) (api.Commit, api.Errno) { return api.Commit{}, api.OK }
+
+// Left: how many pairs are kept (P8).
+func (s *Signer) Left() int { return 0 }
+
+// Sign: a share of a signature (P9).
+func (s *Signer) Sign(message string, l []api.Commit) (uint64, api.Errno) { return 0, api.OK }
+
+// Aggregate: shares of a signature, taken together; or whose are wrong (P10).
+func Aggregate(g api.Group, message string, l []api.Commit, shares []uint64) (api.Sig, []int, api.Errno) {
+	return api.Sig{}, nil, api.OK
+}
