@@ -13,6 +13,14 @@ func ElementOf(x uint64) (Element, bool) {
 	return Element(x), true
 }
 
+// ProperOf reads an element other than 1. Keys and commitments must be one: to 1 every power is 1, and it would hold for anything.
+func ProperOf(x uint64) (Element, bool) {
+	if x == 1 {
+		return 0, false
+	}
+	return ElementOf(x)
+}
+
 // ToThe is G to a scalar: what is told of a scalar that is not told itself.
 func ToThe(s Scalar) Element { return Element(api.G).Power(s) }
 

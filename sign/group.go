@@ -39,6 +39,17 @@ func newGroup(g api.Group) (*group, api.Errno) {
 	return &group{n: g.N, commits: commits}, api.OK
 }
 
+// inTurn: signers that are listed have numbers from 1 to most, and rise; ahead is the number in front, or 0.
+func inTurn(id, ahead, most int) api.Errno {
+	switch {
+	case id < 1 || id > most:
+		return api.ErrID
+	case id <= ahead:
+		return api.ErrOrder
+	}
+	return api.OK
+}
+
 func (g *group) has(id int) bool { return id >= 1 && id <= g.n }
 
 // public is the public share of a signer whom the group has.

@@ -3,6 +3,7 @@ package sign
 import (
 	"math"
 	"slices"
+	"strings"
 	"testing"
 
 	"threshold/api"
@@ -43,6 +44,14 @@ func TestListsAreOnlyRead(t *testing.T) {
 			t.Errorf("P1: Combine makes %v and %v of %v and 12, 19", ids, shares, was)
 		}
 	}
+	for _, was := range [][]api.Commit{nil, {{ID: 1, D: 4, E: 16}}, {{ID: -1, D: math.MaxUint64, E: 1 << 40}, {}}} {
+		behind := api.Commit{ID: 99, D: 99, E: 99}
+		l := roomy(was, behind)
+		Pack(l)
+		if !sameWithRoom(l, was, behind) {
+			t.Errorf("P1: Pack makes %v of %v", l[:len(l)+2], was)
+		}
+	}
 }
 
 func TestListsAreNotKept(t *testing.T) {
@@ -78,6 +87,26 @@ func TestListsAreNotKept(t *testing.T) {
 	}
 }
 
+func TestBytesAreNotKept(t *testing.T) {
+	l := rising(3)
+	s := Pack(l)
+	was := strings.Clone(s)
+	clear(l)
+	Pack(rising(3)[:2])
+	if s != was {
+		t.Errorf("P1: Pack's answer changes with its list: % x", s)
+	}
+	first, _ := Unpack(s)
+	second, _ := Unpack(s)
+	clear(first[:cap(first)])
+	if !slices.Equal(second, rising(3)) {
+		t.Errorf("P1: two answers of Unpack share memory: %v", second)
+	}
+	if third, e := Unpack(s); e != api.OK || !slices.Equal(third, rising(3)) || s != was {
+		t.Errorf("P1: Unpack answers %v, %d behind a change to an answer", third, e)
+	}
+}
+
 // No answer of a call may hang on the calls ahead of it.
 func TestErrorsChangeNothing(t *testing.T) {
 	g, shares, _ := Deal(2, 3, []uint64{5, 7})
@@ -86,11 +115,20 @@ func TestErrorsChangeNothing(t *testing.T) {
 	Check(g, 0, 12)
 	Check(api.Group{}, 1, 12)
 	Combine([]int{2, 1}, shares[:2])
+	Unpack(packedOne + packedOne)
+	Unpack("x")
+	Verify(1, "m", api.Sig{})
 	if ok, e := Check(g, 1, shares[0]); !ok || e != api.OK {
 		t.Errorf("P1: Check = %v, %d behind errors", ok, e)
 	}
 	if s, e := Combine([]int{1, 2}, shares[:2]); s != 5 || e != api.OK {
 		t.Errorf("P1: Combine = %d, %d behind errors", s, e)
+	}
+	if l, e := Unpack(packedNine); e != api.OK || !slices.Equal(l, []api.Commit{{ID: 9, D: 64, E: 4}}) {
+		t.Errorf("P1: Unpack = %v, %d behind errors", l, e)
+	}
+	if key, s := sigBy(5, 7, "m"); !Verify(key, "m", s) {
+		t.Error("P1: Verify = false behind errors")
 	}
 }
 
@@ -133,6 +171,41 @@ func TestNoPanicAtWildNumbers(t *testing.T) {
 		for _, list := range wildLists {
 			if s, e := Combine(ids, list); s != 0 && e != api.OK {
 				t.Errorf("P1: Combine(%v, %v) = %d beside error %d", ids, list, s, e)
+			}
+		}
+	}
+}
+
+func TestNoPanicAtWildBytesAndSignatures(t *testing.T) {
+	for _, id := range wildInts {
+		for _, d := range wildNumbers {
+			for _, e := range wildNumbers {
+				s := Pack([]api.Commit{{ID: id, D: d, E: e}})
+				if len(s) != 9 {
+					t.Errorf("P5: Pack of {%d %d %d} = % x", id, d, e, s)
+				}
+				if l, e := Unpack(s); e != api.OK && len(l) != 0 {
+					t.Errorf("P1: Unpack(% x) = %v beside error %d", s, l, e)
+				}
+			}
+		}
+	}
+	for length := range 200 {
+		for _, b := range []string{"\x00", "\x01", "\x04", "\x7f", "\xff"} {
+			s := strings.Repeat(b, length)
+			if l, e := Unpack(s); e != api.OK && len(l) != 0 {
+				t.Errorf("P1: Unpack(% x) = %v beside error %d", s, l, e)
+			}
+		}
+	}
+	for _, key := range wildNumbers {
+		for _, r := range wildNumbers {
+			for _, z := range wildNumbers {
+				for _, m := range []string{"", "m", "\xff\x00", strings.Repeat("\x80", 5000)} {
+					if Verify(key, m, api.Sig{R: r, Z: z}) {
+						t.Errorf("P6: Verify(%d, %.20q, {%d %d}) = true", key, m, r, z)
+					}
+				}
 			}
 		}
 	}

@@ -1,6 +1,8 @@
 package sign
 
 import (
+	"encoding/binary"
+	"hash/fnv"
 	"math/big"
 
 	"threshold/api"
@@ -36,6 +38,55 @@ func reckonCombine(ids []int, shares []uint64) uint64 {
 		sum.Add(sum, part)
 	}
 	return sum.Mod(sum, q).Uint64()
+}
+
+// reckonHash leans on the library: the document's hash is its FNV-1a, of 64 bits, modulo Q.
+func reckonHash(tag byte, text string, numbers ...uint64) uint64 {
+	h := fnv.New64a()
+	h.Write([]byte{tag})
+	for _, x := range numbers {
+		h.Write(binary.LittleEndian.AppendUint64(nil, x))
+	}
+	h.Write([]byte(text))
+	return h.Sum64() % api.Q
+}
+
+func reckonChallenge(r, key uint64, message string) uint64 { return reckonHash(2, message, r, key) }
+
+// reckonZ: a nonce, and a secret times a challenge.
+func reckonZ(nonce, secret, challenge uint64) uint64 {
+	z := new(big.Int).Mul(new(big.Int).SetUint64(secret), new(big.Int).SetUint64(challenge))
+	z.Add(z, new(big.Int).SetUint64(nonce))
+	return z.Mod(z, big.NewInt(api.Q)).Uint64()
+}
+
+// mayBeKey: an element that is not 1; the elements are the squares modulo P.
+func mayBeKey(x uint64) bool {
+	return x > 1 && x < api.P && big.Jacobi(new(big.Int).SetUint64(x), big.NewInt(api.P)) == 1
+}
+
+func reckonNine(id byte, d, e uint32) []byte {
+	return binary.LittleEndian.AppendUint32(binary.LittleEndian.AppendUint32([]byte{id}, d), e)
+}
+
+func reckonUnpack(s string) ([]api.Commit, api.Errno) {
+	if len(s)%9 != 0 || len(s) > 81 {
+		return nil, api.ErrBytes
+	}
+	var out []api.Commit
+	for b := []byte(s); len(b) > 0; b = b[9:] {
+		c := api.Commit{ID: int(b[0]), D: uint64(binary.LittleEndian.Uint32(b[1:])), E: uint64(binary.LittleEndian.Uint32(b[5:]))}
+		switch {
+		case c.ID < 1 || c.ID > 9:
+			return nil, api.ErrID
+		case len(out) > 0 && c.ID <= out[len(out)-1].ID:
+			return nil, api.ErrOrder
+		case !mayBeKey(c.D) || !mayBeKey(c.E):
+			return nil, api.ErrElement
+		}
+		out = append(out, c)
+	}
+	return out, api.OK
 }
 
 // scatter: numbers from all over the scalars, the same ones each time; none is 0.

@@ -50,11 +50,8 @@ func Combine(ids []int, shares []uint64) (uint64, api.Errno) {
 	scalars := make([]number.Scalar, len(ids))
 	ahead := 0
 	for k, id := range ids {
-		if id < 1 || id > api.MaxN {
-			return 0, api.ErrID
-		}
-		if id <= ahead {
-			return 0, api.ErrOrder
+		if e := inTurn(id, ahead, api.MaxN); e != api.OK {
+			return 0, e
 		}
 		scalar, ok := number.ScalarOf(shares[k])
 		if !ok {
@@ -67,13 +64,45 @@ func Combine(ids []int, shares []uint64) (uint64, api.Errno) {
 }
 
 // Pack: commitments as bytes (P5).
-func Pack(l []api.Commit) string { return "" }
+func Pack(l []api.Commit) string {
+	out := make([]byte, packedSize*len(l))
+	for k, c := range l {
+		from, to := packedSize*k, packedSize*(k+1)
+		layCommit(out[from:to:to], c)
+	}
+	return string(out)
+}
 
 // Unpack: the commitments of bytes (P5).
-func Unpack(s string) ([]api.Commit, api.Errno) { return nil, api.OK }
+func Unpack(s string) ([]api.Commit, api.Errno) {
+	if len(s)%packedSize != 0 || len(s) > packedSize*api.MaxN {
+		return nil, api.ErrBytes
+	}
+	out := make([]api.Commit, len(s)/packedSize)
+	ahead := 0
+	for k := range out {
+		c := readCommit(s[packedSize*k : packedSize*(k+1)])
+		if e := inTurn(c.ID, ahead, api.MaxN); e != api.OK {
+			return nil, e
+		}
+		if !proper(c) {
+			return nil, api.ErrElement
+		}
+		out[k], ahead = c, c.ID
+	}
+	return out, api.OK
+}
 
 // Verify: does a signature hold (P6)?
-func Verify(key uint64, message string, s api.Sig) bool { return false }
+func Verify(key uint64, message string, s api.Sig) bool {
+	y, keyFits := number.ProperOf(key)
+	r, rFits := number.ProperOf(s.R)
+	z, zFits := number.ScalarOf(s.Z)
+	if !keyFits || !rFits || !zFits {
+		return false
+	}
+	return number.ToThe(z) == r.Times(y.Power(challenge(r, y, message)))
+}
 
 // Signer: of a group.
 type Signer struct{}
