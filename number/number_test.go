@@ -84,6 +84,19 @@ func TestWhatIsAScalar(t *testing.T) {
 	}
 }
 
+func TestNonzeroScalars(t *testing.T) {
+	for _, x := range []uint64{1, 2, api.Q - 1} {
+		if s, ok := NonzeroOf(x); !ok || uint64(s) != x {
+			t.Errorf("NonzeroOf(%d) = %d, %v", x, s, ok)
+		}
+	}
+	for _, x := range []uint64{0, api.Q, api.Q + 1, 1 << 32, math.MaxUint64} {
+		if s, ok := NonzeroOf(x); ok || s != 0 {
+			t.Errorf("NonzeroOf(%d) = %d, %v", x, s, ok)
+		}
+	}
+}
+
 func TestWhatIsAnElement(t *testing.T) {
 	for _, x := range samples(api.P) {
 		s, ok := ElementOf(x)

@@ -13,6 +13,14 @@ func ScalarOf(x uint64) (Scalar, bool) {
 	return Scalar(x), true
 }
 
+// NonzeroOf reads a scalar other than 0. Nonces must be one: G to the 0 is 1, which no commitment may be.
+func NonzeroOf(x uint64) (Scalar, bool) {
+	if x == 0 {
+		return 0, false
+	}
+	return ScalarOf(x)
+}
+
 func (s Scalar) Plus(o Scalar) Scalar { return (s + o) % api.Q }
 
 // Minus adds Q first: the numbers have no sign, and a difference below 0 would wrap round at 2 to the 64.

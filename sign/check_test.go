@@ -44,8 +44,9 @@ func TestCheckDealtShares(t *testing.T) {
 	}
 }
 
-func TestCheckGroupsThatAreNone(t *testing.T) {
-	for _, g := range []api.Group{
+// groupsThatAreNone: each just past an edge of what a group is, or far out.
+func groupsThatAreNone() []api.Group {
+	return []api.Group{
 		{},
 		groupOf(1, 3, 4),
 		groupOf(1, 3, 4, 16),
@@ -75,7 +76,11 @@ func TestCheckGroupsThatAreNone(t *testing.T) {
 		groupOf(2, 3, 4, api.P),
 		groupOf(2, 3, 4, api.P+1),
 		groupOf(3, 3, 4, 16, math.MaxUint64),
-	} {
+	}
+}
+
+func TestCheckGroupsThatAreNone(t *testing.T) {
+	for _, g := range groupsThatAreNone() {
 		for _, id := range []int{1, 0} {
 			for _, share := range []uint64{1, api.Q} {
 				if ok, e := Check(g, id, share); ok || e != api.ErrGroup {

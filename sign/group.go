@@ -39,6 +39,22 @@ func newGroup(g api.Group) (*group, api.Errno) {
 	return &group{n: g.N, commits: commits}, api.OK
 }
 
+// claim: a share that someone says is a signer's of a group; whether it is, is not asked here.
+func claim(g api.Group, id int, share uint64) (*group, number.Scalar, api.Errno) {
+	own, e := newGroup(g)
+	if e != api.OK {
+		return nil, 0, e
+	}
+	if !own.has(id) {
+		return nil, 0, api.ErrID
+	}
+	scalar, ok := number.ScalarOf(share)
+	if !ok {
+		return nil, 0, api.ErrScalar
+	}
+	return own, scalar, api.OK
+}
+
 // inTurn: signers that are listed have numbers from 1 to most, and rise; ahead is the number in front, or 0.
 func inTurn(id, ahead, most int) api.Errno {
 	switch {
@@ -51,6 +67,13 @@ func inTurn(id, ahead, most int) api.Errno {
 }
 
 func (g *group) has(id int) bool { return id >= 1 && id <= g.n }
+
+func (g *group) threshold() int { return len(g.commits) }
+
+func (g *group) key() number.Element { return g.commits[0] }
+
+// gave: was this share dealt to that signer, whom the group has?
+func (g *group) gave(id int, share number.Scalar) bool { return number.ToThe(share) == g.public(id) }
 
 // public is the public share of a signer whom the group has.
 func (g *group) public(id int) number.Element {

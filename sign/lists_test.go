@@ -152,8 +152,17 @@ func TestNoPanicAtWildNumbers(t *testing.T) {
 				}
 				for _, id := range wildInts {
 					for _, share := range wildNumbers {
-						if ok, e := Check(api.Group{T: a, N: b, Commits: list}, id, share); ok && e != api.OK {
+						g := api.Group{T: a, N: b, Commits: list}
+						ok, e := Check(g, id, share)
+						if ok && e != api.OK {
 							t.Errorf("P1: Check(%d, %d, %v, %d, %d) = true beside error %d", a, b, list, id, share, e)
+						}
+						want := e
+						if e == api.OK && !ok {
+							want = api.ErrShare
+						}
+						if s, e := NewSigner(g, id, share); e != want || (s != nil) != ok {
+							t.Errorf("P7: NewSigner(%v, %d, %d) = %v, %d, want %d", g, id, share, s, e, want)
 						}
 					}
 				}

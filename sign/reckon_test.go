@@ -4,6 +4,7 @@ import (
 	"encoding/binary"
 	"hash/fnv"
 	"math/big"
+	"slices"
 
 	"threshold/api"
 )
@@ -87,6 +88,105 @@ func reckonUnpack(s string) ([]api.Commit, api.Errno) {
 		out = append(out, c)
 	}
 	return out, api.OK
+}
+
+func reckonLook(g api.Group, l []api.Commit) api.Errno {
+	if len(l) < g.T || len(l) > g.N {
+		return api.ErrFew
+	}
+	for k, c := range l {
+		if c.ID < 1 || c.ID > g.N {
+			return api.ErrID
+		}
+		if k > 0 && c.ID <= l[k-1].ID {
+			return api.ErrOrder
+		}
+	}
+	for _, c := range l {
+		if !mayBeKey(c.D) || !mayBeKey(c.E) {
+			return api.ErrElement
+		}
+	}
+	return api.OK
+}
+
+func reckonFactor(i int, key uint64, message string, l []api.Commit) uint64 {
+	numbers := []uint64{uint64(i), key}
+	for _, c := range l {
+		numbers = append(numbers, uint64(c.ID), c.D, c.E)
+	}
+	return reckonHash(1, message, numbers...)
+}
+
+// reckonR: the commitment of all.
+func reckonR(key uint64, message string, l []api.Commit) uint64 {
+	p, r := big.NewInt(api.P), big.NewInt(1)
+	for _, c := range l {
+		f := new(big.Int).SetUint64(reckonFactor(c.ID, key, message, l))
+		r.Mul(r, new(big.Int).SetUint64(c.D))
+		r.Mul(r, f.Exp(new(big.Int).SetUint64(c.E), f, p))
+		r.Mod(r, p)
+	}
+	return r.Uint64()
+}
+
+// reckonWeight: what a share of 1 counts for, where all others' shares are 0.
+func reckonWeight(i int, l []api.Commit) uint64 {
+	ids, ones := make([]int, len(l)), make([]uint64, len(l))
+	for k, c := range l {
+		ids[k] = c.ID
+		if c.ID == i {
+			ones[k] = 1
+		}
+	}
+	return reckonCombine(ids, ones)
+}
+
+// reckonSigner keeps pairs in a list, as they came.
+type reckonSigner struct {
+	g     api.Group
+	id    int
+	share uint64
+	pairs [][2]uint64
+}
+
+func (s *reckonSigner) commit(d, e uint64) (api.Commit, api.Errno) {
+	switch {
+	case d < 1 || d >= api.Q || e < 1 || e >= api.Q:
+		return api.Commit{}, api.ErrScalar
+	case slices.Contains(s.pairs, [2]uint64{d, e}):
+		return api.Commit{}, api.ErrPair
+	case len(s.pairs) == 6:
+		return api.Commit{}, api.ErrFull
+	}
+	s.pairs = append(s.pairs, [2]uint64{d, e})
+	return api.Commit{ID: s.id, D: toTheG(d), E: toTheG(e)}, api.OK
+}
+
+// pairOf: where the pair stands that the signer's commitment of a list is to.
+func (s *reckonSigner) pairOf(l []api.Commit) int {
+	return slices.IndexFunc(s.pairs, func(p [2]uint64) bool {
+		return slices.Contains(l, api.Commit{ID: s.id, D: toTheG(p[0]), E: toTheG(p[1])})
+	})
+}
+
+func (s *reckonSigner) sign(message string, l []api.Commit) (uint64, api.Errno) {
+	if e := reckonLook(s.g, l); e != api.OK {
+		return 0, e
+	}
+	at := s.pairOf(l)
+	if at < 0 {
+		return 0, api.ErrMine
+	}
+	key := s.g.Commits[0]
+	r := reckonR(key, message, l)
+	if r == 1 {
+		return 0, api.ErrZero
+	}
+	d, e := s.pairs[at][0], s.pairs[at][1]
+	s.pairs = slices.Delete(s.pairs, at, at+1)
+	weighed := reckonZ(0, s.share, reckonWeight(s.id, l))
+	return reckonZ(reckonZ(d, e, reckonFactor(s.id, key, message, l)), weighed, reckonChallenge(r, key, message)), api.OK
 }
 
 // scatter: numbers from all over the scalars, the same ones each time; none is 0.

@@ -28,18 +28,11 @@ func Deal(t int, n int, coeffs []uint64) (api.Group, []uint64, api.Errno) {
 
 // Check: is a share a signer's of a group (P3)?
 func Check(g api.Group, id int, share uint64) (bool, api.Errno) {
-	own, e := newGroup(g)
+	own, scalar, e := claim(g, id, share)
 	if e != api.OK {
 		return false, e
 	}
-	if !own.has(id) {
-		return false, api.ErrID
-	}
-	scalar, ok := number.ScalarOf(share)
-	if !ok {
-		return false, api.ErrScalar
-	}
-	return number.ToThe(scalar) == own.public(id), api.OK
+	return own.gave(id, scalar), api.OK
 }
 
 // Combine: what a polynomial is at 0, out of values at some places (P4).
@@ -103,21 +96,6 @@ func Verify(key uint64, message string, s api.Sig) bool {
 	}
 	return number.ToThe(z) == r.Times(y.Power(challenge(r, y, message)))
 }
-
-// Signer: of a group.
-type Signer struct{}
-
-// NewSigner: of a group, with its share (P7).
-func NewSigner(g api.Group, id int, share uint64) (*Signer, api.Errno) { return nil, api.OK }
-
-// Commit: to a pair of nonces, which is kept (P8).
-func (s *Signer) Commit(d uint64, e uint64) (api.Commit, api.Errno) { return api.Commit{}, api.OK }
-
-// Left: how many pairs are kept (P8).
-func (s *Signer) Left() int { return 0 }
-
-// Sign: a share of a signature (P9).
-func (s *Signer) Sign(message string, l []api.Commit) (uint64, api.Errno) { return 0, api.OK }
 
 // Aggregate: shares of a signature, taken together; or whose are wrong (P10).
 func Aggregate(g api.Group, message string, l []api.Commit, shares []uint64) (api.Sig, []int, api.Errno) {
