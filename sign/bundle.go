@@ -89,12 +89,16 @@ func (b bundle) part(c api.Commit) number.Element {
 	return number.Element(c.D).Times(number.Element(c.E).Power(b.factor(c.ID)))
 }
 
-// commitmentOfAll is 1 if the nonces, bound by their factors, come to 0: it could not be a signature's R.
-func (b bundle) commitmentOfAll() number.Element {
-	parts := make([]number.Element, len(b.list))
+func (b bundle) parts() []number.Element {
+	out := make([]number.Element, len(b.list))
 	for k, c := range b.list {
-		parts[k] = b.part(c)
+		out[k] = b.part(c)
 	}
+	return out
+}
+
+// commitmentOfAll is 1 if the nonces, bound by their factors, come to 0: it could not be a signature's R.
+func commitmentOfAll(parts []number.Element) number.Element {
 	return number.Together(number.Element.Times, 1, parts...)
 }
 

@@ -189,6 +189,65 @@ func (s *reckonSigner) sign(message string, l []api.Commit) (uint64, api.Errno) 
 	return reckonZ(reckonZ(d, e, reckonFactor(s.id, key, message, l)), weighed, reckonChallenge(r, key, message)), api.OK
 }
 
+func reckonIsGroup(g api.Group) bool {
+	if g.T < 2 || g.N < g.T || g.N > 9 || len(g.Commits) != g.T || g.Commits[0] == 1 {
+		return false
+	}
+	return !slices.ContainsFunc(g.Commits, func(c uint64) bool { return c != 1 && !mayBeKey(c) })
+}
+
+// reckonPower: x to the power of y, modulo P.
+func reckonPower(x, y uint64) *big.Int {
+	return new(big.Int).Exp(new(big.Int).SetUint64(x), new(big.Int).SetUint64(y), big.NewInt(api.P))
+}
+
+func reckonPublic(g api.Group, i int) uint64 {
+	all := big.NewInt(1)
+	for k, c := range g.Commits {
+		place := new(big.Int).Exp(big.NewInt(int64(i)), big.NewInt(int64(k)), big.NewInt(api.Q))
+		all.Mul(all, reckonPower(c, place.Uint64()))
+	}
+	return all.Mod(all, big.NewInt(api.P)).Uint64()
+}
+
+// reckonRight: is a share right that the signer of commitment c of l has made?
+func reckonRight(g api.Group, message string, l []api.Commit, c api.Commit, share uint64) bool {
+	key := g.Commits[0]
+	owed := reckonZ(0, reckonChallenge(reckonR(key, message, l), key, message), reckonWeight(c.ID, l))
+	want := new(big.Int).SetUint64(c.D)
+	want.Mul(want, reckonPower(c.E, reckonFactor(c.ID, key, message, l)))
+	want.Mul(want, reckonPower(reckonPublic(g, c.ID), owed))
+	return share < api.Q && toTheG(share) == want.Mod(want, big.NewInt(api.P)).Uint64()
+}
+
+func reckonAggregate(g api.Group, message string, l []api.Commit, shares []uint64) (api.Sig, []int, api.Errno) {
+	if !reckonIsGroup(g) {
+		return api.Sig{}, nil, api.ErrGroup
+	}
+	if e := reckonLook(g, l); e != api.OK {
+		return api.Sig{}, nil, e
+	}
+	if len(l) != len(shares) {
+		return api.Sig{}, nil, api.ErrLength
+	}
+	r := reckonR(g.Commits[0], message, l)
+	if r == 1 {
+		return api.Sig{}, nil, api.ErrZero
+	}
+	var wrong []int
+	z := uint64(0)
+	for k, c := range l {
+		if !reckonRight(g, message, l, c, shares[k]) {
+			wrong = append(wrong, c.ID)
+		}
+		z = reckonZ(z, shares[k], 1)
+	}
+	if len(wrong) > 0 {
+		return api.Sig{}, wrong, api.ErrSigners
+	}
+	return api.Sig{R: r, Z: z}, nil, api.OK
+}
+
 // scatter: numbers from all over the scalars, the same ones each time; none is 0.
 func scatter(seed uint64, count int) []uint64 {
 	out := make([]uint64, count)

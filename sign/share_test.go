@@ -339,9 +339,9 @@ func TestSignListsAreOnlyRead(t *testing.T) {
 	}
 	l := exampleList()
 	b := newBundle(signerOf(t, 1).group, "m", l)
-	r := b.commitmentOfAll()
+	r := commitmentOfAll(b.parts())
 	clear(l)
-	if !slices.Equal(b.list, exampleList()) || b.commitmentOfAll() != r || uint64(r) != reckonR(1024, "m", exampleList()) {
+	if !slices.Equal(b.list, exampleList()) || commitmentOfAll(b.parts()) != r || uint64(r) != reckonR(1024, "m", exampleList()) {
 		t.Errorf("P1: a package changes with the list that was handed in: %v", b.list)
 	}
 }

@@ -99,5 +99,25 @@ func Verify(key uint64, message string, s api.Sig) bool {
 
 // Aggregate: shares of a signature, taken together; or whose are wrong (P10).
 func Aggregate(g api.Group, message string, l []api.Commit, shares []uint64) (api.Sig, []int, api.Errno) {
-	return api.Sig{}, nil, api.OK
+	own, e := newGroup(g)
+	if e != api.OK {
+		return api.Sig{}, nil, e
+	}
+	b := newBundle(own, message, l)
+	if e := b.look(); e != api.OK {
+		return api.Sig{}, nil, e
+	}
+	if len(shares) != len(b.list) {
+		return api.Sig{}, nil, api.ErrLength
+	}
+	parts := b.parts()
+	r := commitmentOfAll(parts)
+	if r == 1 {
+		return api.Sig{}, nil, api.ErrZero
+	}
+	found := b.judgeAll(parts, b.challenge(r), shares)
+	if wrong := found.wrong(); len(wrong) > 0 {
+		return api.Sig{}, wrong, api.ErrSigners
+	}
+	return api.Sig{R: uint64(r), Z: uint64(found.sum())}, nil, api.OK
 }

@@ -86,7 +86,7 @@ func (s *Signer) Sign(message string, l []api.Commit) (uint64, api.Errno) {
 	if e := b.look(); e != api.OK {
 		return 0, e
 	}
-	r := b.commitmentOfAll()
+	r := commitmentOfAll(b.parts())
 	p, e := s.take(b.of(s.id), r)
 	if e != api.OK {
 		return 0, e
